@@ -1,0 +1,1 @@
+"""Rulerkeep: restore points that live by the zeros of their ticks."""
