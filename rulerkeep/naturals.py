@@ -6,6 +6,11 @@ def is_natural(value):
     return isinstance(value, int) and not isinstance(value, bool) and value >= 0
 
 
+def is_pair(value):
+    """Whether any value is a tuple of two integers from 0."""
+    return isinstance(value, tuple) and len(value) == 2 and all([is_natural(part) for part in value])
+
+
 def at_most(one, other):
     """Whether one is not greater than other."""
     return other is None or (one is not None and one <= other)

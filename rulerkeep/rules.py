@@ -1,7 +1,7 @@
 """Rules: a life for each rank."""
 
 from rulerkeep.errors import BadLives, BadRank
-from rulerkeep.naturals import at_most, greater, is_natural, lesser
+from rulerkeep.naturals import at_most, greater, is_natural, is_pair, lesser
 from rulerkeep.ranks import rank
 
 LONGEST_LIFE = 10 ** 18
@@ -29,11 +29,6 @@ def life_of(lives, point):
 def side_by_side(lives, others):
     """The pairs of both lives at each rank, as far as one of them goes."""
     return [(life_at(lives, at), life_at(others, at)) for at in range(max(len(lives), len(others)))]
-
-
-def is_point_and_tick(value):
-    """Whether any value is a tuple of two integers from 0."""
-    return isinstance(value, tuple) and len(value) == 2 and all([is_natural(part) for part in value])
 
 
 class Reckoned:
@@ -111,7 +106,7 @@ class Rule:
 
     def __contains__(self, x):
         """Whether any value is a tuple (point, tick), and the rule keeps the point at the tick."""
-        if not is_point_and_tick(x):
+        if not is_pair(x):
             return False
         point, tick = x
         return point <= tick and not at_most(life_of(self._lives, point), tick - point)

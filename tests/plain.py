@@ -1,5 +1,6 @@
 """What the document says, word by word and slowly: the tests hold the program against it."""
 
+from fractions import Fraction
 from itertools import combinations_with_replacement
 
 
@@ -23,20 +24,72 @@ def keeps(lives, point, tick):
     return own is None or tick - point < own
 
 
-def distance(lives, tick, age):
-    """The distance at a tick, None without a restore point."""
+def kept(lives, tick):
+    """All points that are kept at a tick."""
+    return [point for point in range(tick + 1) if keeps(lives, point, tick)]
+
+
+def restore_point(lives, tick, age):
     for point in range(tick - age, -1, -1):
         if keeps(lives, point, tick):
-            return tick - point - age
+            return point
     return None
 
 
+def distance(lives, tick, age):
+    """The distance at a tick, None without a restore point."""
+    point = restore_point(lives, tick, age)
+    return None if point is None else tick - point - age
+
+
+def longest(lives):
+    """The longest life that is an integer."""
+    return max([own for own in lives if own is not None], default=0)
+
+
+def distances(lives, age):
+    """The distances at an age, (tick, distance), at so many ticks that all others only repeat them."""
+    beyond = age + longest(lives) + 4 * 2 ** len(lives)
+    return [(tick, distance(lives, tick, age)) for tick in range(age, beyond)]
+
+
 def worst(lives, age):
-    """The worst distance over so many ticks that all others only repeat them."""
-    longest = max([own for own in lives if own is not None], default=0)
-    beyond = age + longest + 4 * 2 ** len(lives)
-    distances = [distance(lives, tick, age) for tick in range(age, beyond)]
-    return None if None in distances else max(distances)
+    """The worst distance at an age."""
+    found = [one for _, one in distances(lives, age)]
+    return None if None in found else max(found)
+
+
+def worse(one, other):
+    """Whether a distance is greater than another one, None being the greatest."""
+    return one is None or one > other
+
+
+def wished(wish, age):
+    """The distance that a wish names for an age up to the last one."""
+    return min([step for step in wish if age <= step[0]])[1]
+
+
+def meets(lives, wish):
+    """Whether a rule meets a wish, at all ages up to the last one and at all ticks."""
+    return not any(worse(worst(lives, age), wished(wish, age)) for age in range(wish[-1][0] + 1))
+
+
+def at_ranks(lives, ranks):
+    """The lives of all ranks below a number, None as an integer beyond all others."""
+    return [10 ** 30 if own is None else own for own in [life(lives, at) for at in range(ranks)]]
+
+
+def below(one, other):
+    """Whether the rule with the lives one is <= that with the lives other."""
+    ranks = max(len(one), len(other))
+    return all(mine <= its for mine, its in zip(at_ranks(one, ranks), at_ranks(other, ranks)))
+
+
+def average(lives):
+    """The average number of points, from going through as many ticks as repeat themselves, behind the last life."""
+    ticks = 2 ** (len(lives) - 1)
+    points = sum(len(kept(lives, tick)) for tick in range(lives[-1], lives[-1] + ticks))
+    return Fraction(points, ticks)
 
 
 def all_lives(most_lives, longest):

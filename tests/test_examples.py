@@ -24,6 +24,37 @@ POINT_5_OPERATORS = """
 [(1, 2, 9), (0, 1, 8), (1, 3, 9), True, False, (0, None)]
 """
 
+POINT_6 = """
+>>> from rulerkeep.points import distance, kept, kept_between, kept_count, restore_point
+>>> from rulerkeep.rules import Rule
+>>> rule = Rule(0, 2, 8)
+>>> [list(kept(rule, 7)), kept_count(rule, 7), kept_between(rule, 7, 1, 6), restore_point(rule, 7, 2), distance(rule, 7, 2), distance(rule, 4, 1), restore_point(rule, 8, 5)]
+[[0, 4, 6], 3, 2, 4, 1, 3, None]
+"""
+
+POINT_7 = """
+>>> from rulerkeep.worst import promised, worst, worst_tick
+>>> from rulerkeep.rules import Rule
+>>> rule = Rule(0, 2, 8)
+>>> [worst(rule, 1), worst_tick(rule, 1), worst(rule, 5), promised(rule), promised(Rule(0, None)), promised(Rule(0))]
+[3, 4, None, ((0, 1), (4, 3)), ((None, 1),), ()]
+"""
+
+POINT_8 = """
+>>> from rulerkeep.averages import average, most
+>>> from rulerkeep.rules import Rule
+>>> [average(Rule(0, 2, 8)), average(Rule(0, 3)), average(Rule(0, None)), most(Rule(0, 2, 8))[0]]
+[(5, 2), (3, 2), None, 3]
+"""
+
+POINT_9 = """
+>>> from rulerkeep.wishes import cheapest, first_broken, least_lives, meets, shows_broken
+>>> from rulerkeep.rules import Rule
+>>> wish = ((0, 1), (1, 3))
+>>> [meets(Rule(0, 3), wish), first_broken(Rule(0, 2), wish)[0], shows_broken(Rule(0, 2), wish, (1, 2)), least_lives(wish), cheapest(wish).lives]
+[True, 1, True, ((0, 2, 5), (0, 3), (1, 1, 5), (2,)), (0, 3)]
+"""
+
 
 class Examples(unittest.TestCase):
     def check(self, text):
@@ -41,6 +72,18 @@ class Examples(unittest.TestCase):
 
     def test_point_5_operators(self):
         self.check(POINT_5_OPERATORS)
+
+    def test_point_6(self):
+        self.check(POINT_6)
+
+    def test_point_7(self):
+        self.check(POINT_7)
+
+    def test_point_8(self):
+        self.check(POINT_8)
+
+    def test_point_9(self):
+        self.check(POINT_9)
 
     def test_readme(self):
         readme = Path(__file__).resolve().parent.parent / 'README.md'

@@ -5,9 +5,13 @@ import inspect
 import unittest
 from pathlib import Path
 
+from rulerkeep.averages import average, most
 from rulerkeep.errors import BadLine, KeepError
+from rulerkeep.points import distance, kept, kept_between, kept_count, restore_point
 from rulerkeep.ranks import rank, ranked, youngest
 from rulerkeep.rules import Rule
+from rulerkeep.wishes import cheapest, first_broken, is_wish, least_lives, meets, shows_broken
+from rulerkeep.worst import promised, shows_worst, worst, worst_tick
 
 PACKAGE = Path(__file__).resolve().parent.parent / 'rulerkeep'
 
@@ -19,7 +23,22 @@ NAMES = {
     'errors.py': ERRORS,
     'ranks.py': ('rank', 'youngest', 'ranked'),
     'rules.py': ('Rule',),
+    'points.py': ('kept', 'kept_count', 'kept_between', 'restore_point', 'distance'),
+    'worst.py': ('worst', 'worst_tick', 'shows_worst', 'promised'),
+    'averages.py': ('average', 'most'),
+    'wishes.py': ('is_wish', 'meets', 'first_broken', 'shows_broken', 'least_lives', 'cheapest'),
 }
+SIGNATURES = (
+    (rank, '(point)'), (youngest, '(tick, rank)'), (ranked, '(low, high, rank)'),
+    (Rule, '(*lives)'), (Rule.are_lives, '(value)'), (Rule.of, '(lives)'), (Rule(1), '(age)'),
+    (BadLine, '(value)'),
+    (kept, '(rule, tick)'), (kept_count, '(rule, tick)'), (kept_between, '(rule, tick, low, high)'),
+    (restore_point, '(rule, tick, age)'), (distance, '(rule, tick, age)'),
+    (worst, '(rule, age)'), (worst_tick, '(rule, age)'), (shows_worst, '(rule, age, value)'), (promised, '(rule)'),
+    (average, '(rule)'), (most, '(rule)'),
+    (is_wish, '(value)'), (meets, '(rule, wish)'), (first_broken, '(rule, wish)'),
+    (shows_broken, '(rule, wish, value)'), (least_lives, '(wish)'), (cheapest, '(wish)'),
+)
 METHODS = {
     ('rules.py', 'Rule'): (
         '__init__', 'lives', '__len__', '__eq__', '__getitem__', '__bool__', '__call__', '__contains__', '__or__',
@@ -56,14 +75,8 @@ class Interface(unittest.TestCase):
                 self.assertIn('__init__', defined(part.body), part.name)
 
     def test_the_names_of_the_arguments(self):
-        self.assertEqual(str(inspect.signature(rank)), '(point)')
-        self.assertEqual(str(inspect.signature(youngest)), '(tick, rank)')
-        self.assertEqual(str(inspect.signature(ranked)), '(low, high, rank)')
-        self.assertEqual(str(inspect.signature(Rule)), '(*lives)')
-        self.assertEqual(str(inspect.signature(Rule.are_lives)), '(value)')
-        self.assertEqual(str(inspect.signature(Rule.of)), '(lives)')
-        self.assertEqual(str(inspect.signature(Rule(1))), '(age)')
-        self.assertEqual(str(inspect.signature(BadLine)), '(value)')
+        for called, arguments in SIGNATURES:
+            self.assertEqual(str(inspect.signature(called)), arguments, called)
 
     def test_the_kinds_of_the_members_of_a_rule(self):
         self.assertIsInstance(vars(Rule)['lives'], property)
