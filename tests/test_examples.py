@@ -55,6 +55,36 @@ POINT_9 = """
 [True, 1, True, ((0, 2, 5), (0, 3), (1, 1, 5), (2,)), (0, 3)]
 """
 
+POINT_10 = """
+>>> from rulerkeep.changes import after_changes, changed, settled
+>>> from rulerkeep.rules import Rule
+>>> old, new = Rule(0, 2, 8), Rule(4, 4, 8)
+>>> [changed(old, new, 1).lives, settled(old, new), settled(Rule(2), Rule(None)), after_changes(Rule(8), (Rule(2), 3), (Rule(6), 1)).lives]
+[(1, 3, 8), 4, None, (3,)]
+"""
+
+POINT_11 = """
+>>> from rulerkeep.rules import Rule
+>>> from rulerkeep.store import Store, tried
+>>> store = Store(Rule(0, 2, 8), tick=7)
+>>> [store.points(), store.restore(2), tried(store, lambda held: held.lose(4)), store.lose(4), store.restore(2), store.distance(2), store.advance(1), store.points(), store.restore(1)]
+[(0, 4, 6), 4, None, None, 0, 5, None, (8,), None]
+"""
+
+POINT_12 = """
+>>> from rulerkeep.rules import Rule
+>>> from rulerkeep.texts import read_rule, read_wish, show_rule, show_wish
+>>> [show_rule(Rule(0, 8, None)), read_rule('0 2 2').lives, show_wish(((0, 1), (9, 3))), read_wish('5:0')]
+['0 8 -', (0, 2), '0:1 9:3', ((5, 0),)]
+"""
+
+POINT_13 = """
+>>> from rulerkeep.session import Session
+>>> session = Session('0 2 8')
+>>> [session.say('advance 7'), session.say('points'), session.say('distance 2'), session.say('worst 1'), session.say('wish 0:1 9:3'), session.say('average'), session.say('cheapest 0:1 9:3'), session.say('points')]
+['ok', '0 4 6', '1', '3', 'broken 5', '5/2', '0 2 13', '0 4 6']
+"""
+
 
 class Examples(unittest.TestCase):
     def check(self, text):
@@ -84,6 +114,18 @@ class Examples(unittest.TestCase):
 
     def test_point_9(self):
         self.check(POINT_9)
+
+    def test_point_10(self):
+        self.check(POINT_10)
+
+    def test_point_11(self):
+        self.check(POINT_11)
+
+    def test_point_12(self):
+        self.check(POINT_12)
+
+    def test_point_13(self):
+        self.check(POINT_13)
 
     def test_readme(self):
         readme = Path(__file__).resolve().parent.parent / 'README.md'

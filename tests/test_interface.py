@@ -6,10 +6,14 @@ import unittest
 from pathlib import Path
 
 from rulerkeep.averages import average, most
+from rulerkeep.changes import after_changes, changed, settled
 from rulerkeep.errors import BadLine, KeepError
 from rulerkeep.points import distance, kept, kept_between, kept_count, restore_point
 from rulerkeep.ranks import rank, ranked, youngest
 from rulerkeep.rules import Rule
+from rulerkeep.session import Session
+from rulerkeep.store import Store, Trial, tried
+from rulerkeep.texts import read_rule, read_wish, show_rule, show_wish
 from rulerkeep.wishes import cheapest, first_broken, is_wish, least_lives, meets, shows_broken
 from rulerkeep.worst import promised, shows_worst, worst, worst_tick
 
@@ -27,6 +31,10 @@ NAMES = {
     'worst.py': ('worst', 'worst_tick', 'shows_worst', 'promised'),
     'averages.py': ('average', 'most'),
     'wishes.py': ('is_wish', 'meets', 'first_broken', 'shows_broken', 'least_lives', 'cheapest'),
+    'changes.py': ('changed', 'after_changes', 'settled'),
+    'store.py': ('Store', 'Trial', 'tried'),
+    'texts.py': ('show_rule', 'show_wish', 'read_rule', 'read_wish'),
+    'session.py': ('Session',),
 }
 SIGNATURES = (
     (rank, '(point)'), (youngest, '(tick, rank)'), (ranked, '(low, high, rank)'),
@@ -38,12 +46,25 @@ SIGNATURES = (
     (average, '(rule)'), (most, '(rule)'),
     (is_wish, '(value)'), (meets, '(rule, wish)'), (first_broken, '(rule, wish)'),
     (shows_broken, '(rule, wish, value)'), (least_lives, '(wish)'), (cheapest, '(wish)'),
+    (changed, '(old, new, since)'), (after_changes, '(first, *changes)'), (settled, '(old, new)'),
+    (Store, '(rule, *, tick=0)'), (Store(Rule(1)).size, '()'), (Store(Rule(1)).advance, '(ticks)'),
+    (Store(Rule(1)).change, '(rule)'), (Store(Rule(1)).lose, '(point)'), (Store(Rule(1)).restore, '(age)'),
+    (Store(Rule(1)).distance, '(age)'), (Store(Rule(1)).points, '()'), (Store(Rule(1)).joined, '(other)'),
+    (Store(Rule(1)).clone, '()'), (Trial, '(store)'), (tried, '(store, steps)'),
+    (show_rule, '(rule)'), (show_wish, '(wish)'), (read_rule, '(text)'), (read_wish, '(text)'),
+    (Session, '(text)'), (Session('1').say, '(line)'),
 )
 METHODS = {
     ('rules.py', 'Rule'): (
         '__init__', 'lives', '__len__', '__eq__', '__getitem__', '__bool__', '__call__', '__contains__', '__or__',
         '__and__', '__add__', '__le__', 'are_lives', 'of',
     ),
+    ('store.py', 'Store'): (
+        '__init__', 'tick', 'rule', 'size', 'advance', 'change', 'lose', 'restore', 'distance', 'points',
+        '__contains__', 'joined', 'clone',
+    ),
+    ('store.py', 'Trial'): ('__init__', '__enter__', '__exit__'),
+    ('session.py', 'Session'): ('__init__', 'say'),
 }
 
 
@@ -83,6 +104,10 @@ class Interface(unittest.TestCase):
         self.assertIsInstance(vars(Rule)['are_lives'], staticmethod)
         self.assertIsInstance(vars(Rule)['of'], classmethod)
         self.assertIn('MOST_LIVES', vars(Rule))
+
+    def test_the_kinds_of_the_members_of_a_store(self):
+        self.assertIsInstance(vars(Store)['tick'], property)
+        self.assertIsInstance(vars(Store)['rule'], property)
 
     def test_keep_error_is_imported_from_errors(self):
         self.assertEqual(KeepError.__module__, 'rulerkeep.errors')
