@@ -224,7 +224,8 @@ class NoLines(unittest.TestCase):
 
     def test_other_words(self):
         self.check(('', ' ', 'x', 'Tick', 'TICK', 'ticks', 'tic', 'point', 'size', 'help', 'clone', 'joined',
-                    'promised', 'most', 'settled', '7', '0 2 8', '-', 'ok', 'none', 'Advance 5', 'advanced 5', 'advance5',
+                    'promised', 'most', 'settled', '7', '0 2 8', '-', 'ok', 'none', 'Advance 5', 'advanced 5',
+                    'advance5',
                     'met', 'broken 5', 'tick;', 'rule tick', 'lives', 'cheap 0:1'))
 
     def test_lines_that_want_no_more(self):

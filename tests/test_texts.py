@@ -17,8 +17,8 @@ MOST = 10 ** 18
 # Words that write no integer from 0 to 10 ** 18.
 NO_NUMBERS = (
     '', '00', '01', '007', '00' + str(MOST), '+1', '-1', '-0', '+0', '--', '1-', '1.0', '1e3', '1_0', '0x1', 'a',
-    'None', 'none', 'True', '1,', ',', '(1,)', '*', '\t', '1\n', '\n1', '1\t', '\x00', str(MOST + 1), str(10 ** 19), '9' * 19,
-    '1' * 5000, '0' * 20, '0' * 5000, '\u0663', '\xb2',
+    'None', 'none', 'True', '1,', ',', '(1,)', '*', '\t', '1\n', '\n1', '1\t', '\x00', str(MOST + 1), str(10 ** 19),
+    '9' * 19, '1' * 5000, '0' * 20, '0' * 5000, '\u0663', '\xb2',
 )
 NO_STRINGS = tuple([value for value in plain.NOT_NATURAL if not isinstance(value, str)]) + (
     0, 5, MOST, 10 ** 19, ('0 2',), ['0 2'], ['0', '2'], ('0', '2'), {'0': '2'}, ((0, 1),), ('0:1',), ['0:1'],
@@ -158,7 +158,7 @@ class Wishes(Texts):
                 self.check_bad(read_wish, text)
 
     def test_no_steps(self):
-        for text in ('5', '5:', ':5', ':', '::', '0:1:2', '0::1', '0:1:', ':0:1', '0:1 5', '0:1,9:3', '0-1', '0;1', '0 1'):
+        for text in ('5', '5:', ':5', ':', '::', '0:1:2', '0::1', '0:1:', ':0:1', '0:1 5', '0:1,9:3', '0-1', '0 1'):
             self.check_bad(read_wish, text)
 
     def test_no_ascending_steps(self):
